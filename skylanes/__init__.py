@@ -1,0 +1,1 @@
+"""Skylanes: flights by corners in space and time, and what parts them."""
