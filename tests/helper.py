@@ -1,5 +1,6 @@
 """What the tests share: fractions as they are told, and a likeness that sees kinds."""
 
+import random
 import unittest
 from fractions import Fraction
 
@@ -21,6 +22,52 @@ def alike(one, other):
     if isinstance(one, (tuple, list)):
         return len(one) == len(other) and all(alike(a, b) for a, b in zip(one, other))
     return one == other
+
+
+def plan_of(*corners):
+    """A plan of corners, each told by four numbers."""
+    return tuple(tuple(f(value) for value in corner) for corner in corners)
+
+
+def listed(thing):
+    """The same, of lists all through but the fractions in it."""
+    if isinstance(thing, tuple) and not (len(thing) == 2 and all(type(value) is int for value in thing)):
+        return [listed(value) for value in thing]
+    return thing
+
+
+def all_listed(thing):
+    """The same, of lists all through."""
+    return [all_listed(value) for value in thing] if isinstance(thing, (tuple, list)) else thing
+
+
+def some_plan(rnd, most=6, far=4):
+    """A plan of small numbers, so that two of them often turn, or come just so near, at one moment."""
+    many = rnd.randint(2, most)
+    moments = sorted(rnd.sample(range(-6, 14), many))
+    bottom = rnd.choice((1, 1, 2, 3))
+    return tuple(
+        (f(m, bottom),) + tuple(f(rnd.randint(-far, far), rnd.choice((1, 1, 1, 2))) for _ in range(3))
+        for m in moments
+    )
+
+
+def pairs(many, **how):
+    """Two plans and a distance, for as many seeds."""
+    for seed in range(many):
+        rnd = random.Random(seed)
+        yield some_plan(rnd, **how), some_plan(rnd, **how), (f(rnd.randint(1, 6), 2), f(rnd.randint(1, 6), 2))
+
+
+def spot(plan, m):
+    """Where a plan is, in Python's own fractions, its last moment counted; None where it isn't."""
+    for former, latter in zip(plan, plan[1:]):
+        begin, end = number(former[0]), number(latter[0])
+        if begin <= m <= end:
+            share = (m - begin) / (end - begin)
+            return tuple(number(low) + share * (number(high) - number(low))
+                         for low, high in zip(former[1:], latter[1:]))
+    return None
 
 
 class Base(unittest.TestCase):
