@@ -71,6 +71,14 @@ def is_part(thing):
     return bottom > 0 and common(abs(top), bottom) == 1
 
 
+def shared_bottom(numbers):
+    """The least number into which the bottoms of all fractions go evenly."""
+    told = 1
+    for top, bottom in numbers:
+        told *= bottom // common(told, bottom)
+    return told
+
+
 def count_below(numbers, number):
     """How many of a rising list of fractions are below a number."""
     low = 0

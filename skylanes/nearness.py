@@ -1,6 +1,6 @@
 """Where two machines come nearest, and where they are too near."""
 
-from skylanes.fractions import before, common, greater, lesser, minus, over, part, plus, rising, times
+from skylanes.fractions import before, greater, lesser, minus, over, part, plus, rising, shared_bottom, times
 from skylanes.plans import corners_between, spot_at
 from skylanes.stretches import told_set
 
@@ -39,14 +39,6 @@ def gap_at(one, other, apart, m):
     for top, bottom in offs_at(one, other, apart, m):
         gap = greater(gap, (abs(top), bottom))
     return gap
-
-
-def shared_bottom(numbers):
-    """The least number into which the bottoms of all fractions go evenly."""
-    told = 1
-    for top, bottom in numbers:
-        told *= bottom // common(told, bottom)
-    return told
 
 
 def lines_of(first, last):

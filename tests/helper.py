@@ -70,8 +70,65 @@ def spot(plan, m):
     return None
 
 
+def some_bounds(rnd):
+    """Bounds of a flight, of nothing at times, and at times of some of the three alone."""
+    return tuple(f(rnd.choice((0, 0, 1, 2, 5)), 2) for _ in range(3))
+
+
+def st(begin, held, end):
+    return (f(begin), held, None if end is None else f(end))
+
+
+def holds(stretch, m):
+    """Whether a moment is in a stretch, by the document's words alone."""
+    begin, held, end = stretch
+    if number(begin) == m:
+        return held == 1
+    return number(begin) < m and (end is None or m < number(end))
+
+
+def member(stretches, m):
+    return any(holds(stretch, m) for stretch in stretches)
+
+
+def probes(*numbers):
+    """All of the numbers, one moment between each two, and one at either side."""
+    rows = sorted(set(numbers)) or [Fraction(0)]
+    between = [(low + high) / 2 for low, high in zip(rows, rows[1:])]
+    return sorted(rows + between + [rows[0] - 1, rows[-1] + 1])
+
+
+def ends_of(stretches):
+    rows = []
+    for begin, _, end in stretches:
+        rows.append(number(begin))
+        if end is not None:
+            rows.append(number(end))
+    return rows
+
+
 class Base(unittest.TestCase):
     def same(self, answer, wanted):
         if not alike(answer, wanted):
             self.assertEqual(answer, wanted)
             self.fail("equal, but of other kinds")
+
+
+class Sets(Base):
+    def as_told(self, stretches):
+        """As few stretches as there can be, rising, all of tuples."""
+        self.assertIs(type(stretches), tuple)
+        for begin, held, end in stretches:
+            self.assertIs(type(held), int)
+            self.assertIn(held, (0, 1))
+            self.assertTrue(end is None or number(begin) < number(end))
+        for former, latter in zip(stretches, stretches[1:]):
+            self.assertIs(type(former), tuple)
+            self.assertIsNotNone(former[2])
+            low, high = number(former[2]), number(latter[0])
+            self.assertTrue(low < high or (low == high and latter[1] == 0))
+
+    def tells(self, answer, moments, wanted):
+        self.as_told(answer)
+        for m in moments:
+            self.assertEqual(member(answer, m), wanted(m), (answer, m))

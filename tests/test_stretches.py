@@ -3,40 +3,8 @@ import random
 import unittest
 from fractions import Fraction
 
-from helper import Base, f, number
+from helper import Sets, ends_of, f, member, number, probes, st
 from skylanes.stretches import both_of, is_in, later_by, many_of, most_in, out_from, told_set
-
-
-def st(begin, held, end):
-    return (f(begin), held, None if end is None else f(end))
-
-
-def holds(stretch, m):
-    """Whether a moment is in a stretch, by the document's words alone."""
-    begin, held, end = stretch
-    if number(begin) == m:
-        return held == 1
-    return number(begin) < m and (end is None or m < number(end))
-
-
-def member(stretches, m):
-    return any(holds(stretch, m) for stretch in stretches)
-
-
-def probes(*numbers):
-    """All of the numbers, one moment between each two, and one at either side."""
-    rows = sorted(set(numbers)) or [Fraction(0)]
-    between = [(low + high) / 2 for low, high in zip(rows, rows[1:])]
-    return sorted(rows + between + [rows[0] - 1, rows[-1] + 1])
-
-
-def ends_of(stretches):
-    rows = []
-    for begin, _, end in stretches:
-        rows.append(number(begin))
-        if end is not None:
-            rows.append(number(end))
-    return rows
 
 
 def some_set(rnd, most=5):
@@ -47,26 +15,6 @@ def some_set(rnd, most=5):
         stretch = (f(begin), rnd.randint(0, 1), None if end is None else f(end))
         rows.append(list(stretch) if rnd.random() < 0.5 else stretch)
     return rows if rnd.random() < 0.5 else tuple(rows)
-
-
-class Sets(Base):
-    def as_told(self, stretches):
-        """As few stretches as there can be, rising, all of tuples."""
-        self.assertIs(type(stretches), tuple)
-        for begin, held, end in stretches:
-            self.assertIs(type(held), int)
-            self.assertIn(held, (0, 1))
-            self.assertTrue(end is None or number(begin) < number(end))
-        for former, latter in zip(stretches, stretches[1:]):
-            self.assertIs(type(former), tuple)
-            self.assertIsNotNone(former[2])
-            low, high = number(former[2]), number(latter[0])
-            self.assertTrue(low < high or (low == high and latter[1] == 0))
-
-    def tells(self, answer, moments, wanted):
-        self.as_told(answer)
-        for m in moments:
-            self.assertEqual(member(answer, m), wanted(m), (answer, m))
 
 
 class ToldSet(Sets):
