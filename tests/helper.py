@@ -75,6 +75,34 @@ def some_bounds(rnd):
     return tuple(f(rnd.choice((0, 0, 1, 2, 5)), 2) for _ in range(3))
 
 
+def flights(many, **how):
+    """Two flights and a distance, for as many seeds."""
+    for seed, (one, other, apart) in enumerate(pairs(many, **how)):
+        rnd = random.Random(seed)
+        yield (one, some_bounds(rnd)), (other, some_bounds(rnd)), apart
+
+
+def straight(plan, at, s):
+    """The spot of a moment by the straight line of a piece, whether it is in the piece or not."""
+    former, latter = plan[at], plan[at + 1]
+    share = (s - number(former[0])) / (number(latter[0]) - number(former[0]))
+    return [number(low) + share * (number(high) - number(low)) for low, high in zip(former[1:], latter[1:])]
+
+
+def twelve(one, other, apart, i, j, s, t):
+    """The twelve numbers by the document's words."""
+    (plan, bounds), (other_plan, other_bounds) = one, other
+    told = [s - number(plan[i][0]), number(plan[i + 1][0]) - s,
+            t - number(other_plan[j][0]), number(other_plan[j + 1][0]) - t,
+            s - t + number(bounds[2]), t - s + number(other_bounds[2])]
+    here, there = straight(plan, i, s), straight(other_plan, j, t)
+    for side in range(3):
+        kind = 1 if side == 2 else 0
+        size = number(apart[kind]) + number(bounds[kind]) + number(other_bounds[kind])
+        told += [size - (here[side] - there[side]), size + (here[side] - there[side])]
+    return told
+
+
 def st(begin, held, end):
     return (f(begin), held, None if end is None else f(end))
 

@@ -30,6 +30,7 @@ METHODS = set("""append clear copy count endswith extend find get index insert i
 WORDS = re.compile(r"\b(type|typing|typing_extensions|enum|Enum|IntEnum|StrEnum|Flag|IntFlag|Generic|Protocol|ABC"
                    r"|ABCMeta|namedtuple|NamedTuple|TypedDict|TYPE_CHECKING|abstractmethod)\b"
                    r"|dataclass|overload|contextmanager")
+WALKED = set("zip enumerate reversed range items keys values".split())
 UNUSED = set("register mro elements open input version_info with_traceback add_note format format_map".split())
 
 
@@ -127,6 +128,14 @@ class Language(unittest.TestCase):
                 if isinstance(node, (ast.FunctionDef, ast.Lambda)):
                     for name in given_names(node):
                         self.assertNotIn(name, own | tops | UNUSED, (path.name, node.lineno))
+
+    def test_walked_at_once(self):
+        for name, _, node in walked():
+            if isinstance(node, (ast.Assign, ast.AugAssign, ast.Return, ast.List, ast.Tuple)):
+                for value in getattr(node, "elts", [getattr(node, "value", None)]):
+                    if isinstance(value, ast.Call):
+                        called = getattr(value.func, "id", getattr(value.func, "attr", None))
+                        self.assertNotIn(called, WALKED, (name, value.lineno))
 
     def test_methods(self):
         defined = {node.name for _, _, node in walked() if isinstance(node, ast.FunctionDef)}

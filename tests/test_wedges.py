@@ -2,29 +2,8 @@ import random
 import unittest
 from fractions import Fraction
 
-from helper import Base, f, listed, number, plan_of, some_bounds, some_plan
+from helper import Base, f, flights, listed, number, plan_of, twelve
 from skylanes.wedges import STRICT, form_of, wedges_of
-
-
-def straight(plan, at, s):
-    """The spot of a moment by the straight line of a piece, whether it is in the piece or not."""
-    former, latter = plan[at], plan[at + 1]
-    share = (s - number(former[0])) / (number(latter[0]) - number(former[0]))
-    return [number(low) + share * (number(high) - number(low)) for low, high in zip(former[1:], latter[1:])]
-
-
-def twelve(one, other, apart, i, j, s, t):
-    """The twelve numbers by the document's words."""
-    (plan, bounds), (other_plan, other_bounds) = one, other
-    told = [s - number(plan[i][0]), number(plan[i + 1][0]) - s,
-            t - number(other_plan[j][0]), number(other_plan[j + 1][0]) - t,
-            s - t + number(bounds[2]), t - s + number(other_bounds[2])]
-    here, there = straight(plan, i, s), straight(other_plan, j, t)
-    for side in range(3):
-        kind = 1 if side == 2 else 0
-        size = number(apart[kind]) + number(bounds[kind]) + number(other_bounds[kind])
-        told += [size - (here[side] - there[side]), size + (here[side] - there[side])]
-    return told
 
 
 class Wedges(Base):
@@ -39,10 +18,8 @@ class Wedges(Base):
         self.same(rows, [(0, 0), (0, 1), (0, 2), (1, 0), (1, 1), (1, 2)])
 
     def test_the_twelve_numbers(self):
-        for seed in range(60):
-            rnd = random.Random(seed)
-            one, other = (some_plan(rnd), some_bounds(rnd)), (some_plan(rnd), some_bounds(rnd))
-            apart = (f(rnd.randint(1, 6), 2), f(rnd.randint(1, 6), 2))
+        rnd = random.Random(1)
+        for one, other, apart in flights(60):
             s, t = Fraction(rnd.randint(-20, 20), 3), Fraction(rnd.randint(-20, 20), 3)
             for i, j, wedge in wedges_of(one, other, apart):
                 forms = [form_of(wedge, at) for at in range(12)]
