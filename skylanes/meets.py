@@ -70,3 +70,8 @@ def meet_of(one, other, apart):
             return ("meet", moments[0], moments[1])
         rows.append((i, j, weights))
     return ("apart", tuple(rows))
+
+
+def may_meet(one, other, apart):
+    """Whether two flights may meet at all."""
+    return meet_of(one, other, apart)[0] == "meet"

@@ -30,14 +30,19 @@ def crossed(low, high, at):
     return summed(low, -high[0][at], high, low[0][at])
 
 
-def without(planes, at):
-    """Planes without an unknown, which all hold just where there is a number for it by which the given ones do."""
+def without(planes, at, most=2):
+    """Planes without an unknown, which all hold just where there is a number for it by which the given ones do.
+
+    most is one more than the unknowns that are out by then: a sum of more of the forms at the start
+    is a sum of such sums, and says nothing that they don't.
+    """
     lows = [plane for plane in planes if plane[0][at] > 0]
     highs = [plane for plane in planes if plane[0][at] < 0]
     told = [plane for plane in planes if plane[0][at] == 0]
     for low in lows:
         for high in highs:
-            told.append(crossed(low, high, at))
+            if len(set(low[2]) | set(high[2])) <= most:
+                told.append(crossed(low, high, at))
     return told
 
 
@@ -84,27 +89,34 @@ def tightest(planes, at, sign):
 
 
 def fault_in(planes, at):
-    """A sum of planes of one unknown alone, held from both sides, that never holds; None where all can hold."""
+    """A sum of planes of one unknown alone, held from below, that never holds; None where all can hold."""
     for plane in planes:
         if plane[0][at] == 0 and is_never(plane):
             return plane
-    both = crossed(tightest(planes, at, 1), tightest(planes, at, -1), at)
+    high = tightest(planes, at, -1)
+    if high is None:
+        return None
+    both = crossed(tightest(planes, at, 1), high, at)
     return both if is_never(both) else None
 
 
 def range_in(planes, at):
     """The tuple (least, held, greatest) of the one unknown, of planes that can all hold.
 
-    held is 1 where it may be the least number itself.
+    held is 1 where it may be the least number itself; greatest is None where it isn't held from above.
     """
     low = tightest(planes, at, 1)
     least = turn_of(low, at)
-    greatest = turn_of(tightest(planes, at, -1), at)
-    return (part(least[0], least[1]), 1 - low[1], part(greatest[0], greatest[1]))
+    least = part(least[0], least[1])
+    high = tightest(planes, at, -1)
+    if high is None:
+        return (least, 1 - low[1], None)
+    greatest = turn_of(high, at)
+    return (least, 1 - low[1], part(greatest[0], greatest[1]))
 
 
 def value_in(planes, at):
-    """A number for the one unknown by which planes that can all hold do so."""
+    """A number for the one unknown, held from both sides, by which planes that can all hold do so."""
     least, held, greatest = range_in(planes, at)
     # Halfway no plane is 0, unless both are alike: then none of the two is strict.
     return over(plus(least, greatest), whole(2))

@@ -9,6 +9,11 @@ def tupled(rows):
     return tuple([tuple(row) for row in rows])
 
 
+def all_tuples(thing):
+    """A thing that may be made of lists, made of tuples all through."""
+    return tuple([all_tuples(part) for part in thing]) if isinstance(thing, (tuple, list)) else thing
+
+
 def is_corner(thing):
     """Whether any thing is a tuple or a list of four fractions."""
     if not isinstance(thing, (tuple, list)) or len(thing) != 4:

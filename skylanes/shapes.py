@@ -37,16 +37,22 @@ def led_round(former, corner, latter, way, amount):
     return former + (corner,) + put_off(latter[:-1], x, y, z) + latter[-1:]
 
 
+def cut_at(corners, now):
+    """The tuple (former, corner, latter) of a plan that isn't over: the corner from which on it is shaped, and the
+    corners ahead of it and behind it."""
+    begin = greater(now, corners[0][0])
+    former = tuple([corner for corner in corners if before(corner[0], begin)])
+    latter = tuple([corner for corner in corners if before(begin, corner[0])])
+    return (former, corner_at(corners, begin), latter)
+
+
 def shaped(plan, shape, now):
     """The plan by a shape from now on; None where there is no corner to put off."""
     word, amount = shape
     corners = tupled(plan)
     if amount[0] == 0 or not before(now, corners[-1][0]):
         return corners
-    begin = greater(now, corners[0][0])
-    former = tuple([corner for corner in corners if before(corner[0], begin)])
-    latter = tuple([corner for corner in corners if before(begin, corner[0])])
-    corner = corner_at(corners, begin)
+    former, corner, latter = cut_at(corners, now)
     if word == "wait":
         return waited(former, corner, latter, amount)
     if word == "slow":
@@ -62,3 +68,9 @@ def by_shapes(plan, shapes, now):
         if told is None:
             return None
     return told
+
+
+def flight_by(flight, shapes, now):
+    """The flight by one shape behind the other, its bounds as they were; None where one tells None."""
+    plan = by_shapes(flight[0], shapes, now)
+    return None if plan is None else (plan, tuple(flight[1]))

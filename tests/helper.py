@@ -29,6 +29,11 @@ def plan_of(*corners):
     return tuple(tuple(f(value) for value in corner) for corner in corners)
 
 
+def flight(*corners, aside=0, above=0, late=0):
+    """A flight of corners, each told by four numbers, and its bounds."""
+    return (plan_of(*corners), (f(aside), f(above), f(late)))
+
+
 def listed(thing):
     """The same, of lists all through but the fractions in it."""
     if isinstance(thing, tuple) and not (len(thing) == 2 and all(type(value) is int for value in thing)):
@@ -68,6 +73,19 @@ def spot(plan, m):
             return tuple(number(low) + share * (number(high) - number(low))
                          for low, high in zip(former[1:], latter[1:]))
     return None
+
+
+def may_meet(one, other, apart, s, t):
+    """Whether two flights may meet by own moments, in Python's own fractions, by the document's words."""
+    for (plan, _), m in ((one, s), (other, t)):
+        if not number(plan[0][0]) <= m < number(plan[-1][0]):
+            return False
+    if not -number(one[1][2]) <= s - t <= number(other[1][2]):
+        return False
+    offs = [abs(here - there) for here, there in zip(spot(one[0], s), spot(other[0], t))]
+    wide = number(apart[0]) + number(one[1][0]) + number(other[1][0])
+    high = number(apart[1]) + number(one[1][1]) + number(other[1][1])
+    return offs[0] < wide and offs[1] < wide and offs[2] < high
 
 
 def some_bounds(rnd):

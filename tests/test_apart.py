@@ -3,17 +3,12 @@ import random
 import unittest
 from fractions import Fraction
 
-from helper import Base, all_listed, f, flights, listed, number, plan_of, twelve
+from helper import Base, all_listed, f, flight, flights, listed, number, twelve
 from skylanes.apart import shows_apart
 from skylanes.meets import meet_of
 
 APART = (f(2), f(1))
 ABOVE_NOUGHT = (1, 3, 6, 7, 8, 9, 10, 11)
-
-
-def flight(*corners, aside=0, above=0, late=0):
-    return (plan_of(*corners), (f(aside), f(above), f(late)))
-
 
 # The other one flies 3 above, in two pieces; of numbers, 11 is 1 less 3.
 ONE = flight((0, 0, 0, 0), (4, 4, 0, 0))

@@ -2,30 +2,13 @@ import copy
 import unittest
 from fractions import Fraction
 
-from helper import Base, all_listed, f, flights, listed, number, pairs, plan_of, spot
+from helper import Base, all_listed, f, flight, flights, listed, may_meet, number, pairs
 from skylanes.apart import shows_apart
 from skylanes.meets import is_meet, meet_of
 from skylanes.nearness import gap_at, too_near
 
 APART = (f(2), f(1))
 SURE = (f(0), f(0), f(0))
-
-
-def flight(*corners, aside=0, above=0, late=0):
-    return (plan_of(*corners), (f(aside), f(above), f(late)))
-
-
-def may_meet(one, other, apart, s, t):
-    """Whether two flights may meet by own moments, in Python's own fractions, by the document's words."""
-    for (plan, _), m in ((one, s), (other, t)):
-        if not number(plan[0][0]) <= m < number(plan[-1][0]):
-            return False
-    if not -number(one[1][2]) <= s - t <= number(other[1][2]):
-        return False
-    offs = [abs(here - there) for here, there in zip(spot(one[0], s), spot(other[0], t))]
-    wide = number(apart[0]) + number(one[1][0]) + number(other[1][0])
-    high = number(apart[1]) + number(one[1][1]) + number(other[1][1])
-    return offs[0] < wide and offs[1] < wide and offs[2] < high
 
 
 class Meets(Base):

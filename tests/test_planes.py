@@ -81,6 +81,31 @@ class Planes(Base):
                 self.assertTrue(holds(rows, number(s), number(t)))
         self.assertGreater(min(faults, points), 100)
 
+    def test_without_an_end_from_above(self):
+        rows = [((f(-1), f(2)), 1), ((f("1/2"), f(0)), 1)]
+        self.assertIsNone(fault_in(planes_of(rows), 1))
+        self.same(range_in(planes_of(rows), 1), (f("1/2"), 0, None))
+        self.same(range_in(planes_of([((f(-1), f(2)), 0)]), 1), (f("1/2"), 1, None))
+        self.assertIsNotNone(fault_in(planes_of(rows + [((f(0), f(0)), 1)]), 1))
+
+    def test_two_out_of_three_unknowns(self):
+        # What is left by sums of at most three is what is left by all sums.
+        fewer = faults = 0
+        for seed in range(150):
+            rnd = random.Random(seed)
+            rows = [((f(0), f(0), f(0), f(1)), 0)]
+            for form, strict in some_forms(rnd, rnd.randint(2, 5)):
+                rows.append((form + (f(rnd.randint(-3, 3)),), strict))
+            first = without(planes_of(rows), 2)
+            few, many = without(first, 1, 3), without(first, 1, 99)
+            fewer += len(few) < len(many)
+            self.assertEqual(fault_in(few, 3) is None, fault_in(many, 3) is None)
+            if fault_in(few, 3) is None:
+                self.same(range_in(few, 3), range_in(many, 3))
+            else:
+                faults += 1
+        self.assertGreater(min(fewer, faults), 20)
+
     def test_range_of_one_of_two(self):
         for seed in range(200):
             rnd = random.Random(seed)
