@@ -21,7 +21,7 @@ from skylanes.stretches import out_from, told_set
 from skylanes.wedges import BACK, NOUGHT, ONCE, negative, piece_between, sizes_of
 
 # How the moment that a piece was flown at hangs on along, where along is that moment itself.
-AS_IT_IS = (NOUGHT, ONCE)
+AS_IT_IS = ((0, 1), (1, 1))
 NO_WAY = (0, 0, 0)
 
 
